@@ -1,0 +1,180 @@
+"""A slow, plain model of the document's [6] to [8], written apart from the package.
+
+What a copy knows is a frozenset of indexes here, and the stamp of a copy is the tree of
+all that became of it. The module also makes runs, books and things of all sorts.
+"""
+
+import itertools
+import random
+
+from threecopies.books import Book, Rule
+from threecopies.errors import NoRun, NotLet
+
+KINDS = ("free", "pen", "trunk")
+WORDS = ("same", "newer", "elder", "apart")
+WORLDS = [(most, kind, losses)
+          for most in range(1, 8) for kind in KINDS for losses in (False, True)]
+FREE = (7, "free", True)
+
+
+class Model:
+    def __init__(self):
+        self.known = {0: frozenset()}
+        self.tree = {0: "o"}
+        self.forks = 0
+        self.pen = 0
+
+    def reason(self, deed, world):
+        """Why a deed can't be done, or may not be in the world, or None."""
+        most, kind, losses = world
+        if any(copy not in self.known for copy in deed[1:]):
+            return "not living"
+        if deed[0] == "change" and kind == "pen" and self.pen != deed[1]:
+            return "no pen"
+        if deed[0] == "fork" and len(self.known) == most:
+            return "too many"
+        if deed[0] in ("fork", "join") and kind == "trunk" and deed[1] != 0:
+            return "not the trunk"
+        if deed[0] == "lose" and len(self.known) == 1:
+            return "last copy"
+        if deed[0] == "lose" and not losses:
+            return "no losses"
+        return None
+
+    def do(self, deed, index):
+        copy = deed[1]
+        if deed[0] == "change":
+            self.known[copy] = self.known[copy] | {index}
+            self.tree[copy] = ("change", self.tree[copy])
+        if deed[0] == "fork":
+            self.forks += 1
+            self.known[self.forks] = self.known[copy]
+            stem = self.tree[copy]
+            self.tree[copy] = ("fork 0", stem)
+            self.tree[self.forks] = ("fork 1", stem)
+        if deed[0] == "join":
+            self.known[copy] = self.known[copy] | self.known.pop(deed[2])
+            self.tree[copy] = ("join", self.tree[copy], self.tree.pop(deed[2]))
+            if self.pen == deed[2]:
+                self.pen = copy
+        if deed[0] == "lose":
+            del self.known[copy]
+            del self.tree[copy]
+            if self.pen == copy:
+                self.pen = None
+
+    def truth(self, one, other):
+        one, other = self.known[one], self.known[other]
+        if one == other:
+            return "same"
+        if one > other:
+            return "newer"
+        if one < other:
+            return "elder"
+        return "apart"
+
+    def lots(self, copies):
+        found = set()
+        for deed in frozenset().union(*self.known.values()):
+            lot = tuple(at for at, copy in enumerate(copies) if deed in self.known[copy])
+            if len(lot) < len(copies):
+                found.add(lot)
+        return tuple(sorted(found))
+
+
+def modelled(run, world):
+    """The model behind the deeds that can be done, and the fault or None."""
+    model = Model()
+    for index, deed in enumerate(run):
+        if model.reason(deed, world) is not None:
+            return model, index
+        model.do(deed, index)
+    return model, None
+
+
+def all_deeds(copies):
+    """All deeds of copies below a number."""
+    deeds = [(word, copy) for word in ("change", "fork", "lose") for copy in range(copies)]
+    return deeds + [("join", one, other) for one, other in itertools.permutations(range(copies), 2)]
+
+
+def random_run(seed, world, length):
+    """A run of this world, the same for the same seed; shorter if nothing can be done."""
+    rng = random.Random(seed)
+    model = Model()
+    run = []
+    for index in range(length):
+        copies = sorted(model.known)
+        deeds = [(word, copy) for word in ("change", "fork", "lose") for copy in copies]
+        # Joins are many among many copies; one of them is enough to choose from.
+        if len(copies) > 1:
+            deeds += [("join",) + tuple(rng.sample(copies, 2)) for _ in range(2)]
+        deeds += [("fork", copy) for copy in copies]
+        deeds = [deed for deed in deeds if model.reason(deed, world) is None]
+        if not deeds:
+            break
+        deed = rng.choice(deeds)
+        model.do(deed, index)
+        run.append(deed)
+    return tuple(run)
+
+
+def random_book(seed, many, with_looks=True):
+    rng = random.Random(seed)
+
+    def row(length):
+        return tuple(rng.randrange(many) for _ in range(length))
+
+    looks = tuple(tuple(rng.choice(WORDS) for _ in range(many)) for _ in range(many))
+    return Book(rng.randrange(many), row(many), tuple(row(2) for _ in range(many)),
+                tuple(row(many) for _ in range(many)), looks if with_looks else None)
+
+
+def tree_rule(looks=None):
+    """A Rule whose stamps are the trees of the model."""
+    return Rule("o", lambda stamp: ("change", stamp),
+                lambda stamp: (("fork 0", stamp), ("fork 1", stamp)),
+                lambda one, other: ("join", one, other), looks)
+
+
+def by_book(book, tree):
+    """The stamp of a Book that stands for a tree."""
+    if tree == "o":
+        return book.first
+    parts = [by_book(book, part) for part in tree[1:]]
+    if tree[0] == "change":
+        return book.changes[parts[0]]
+    if tree[0] == "join":
+        return book.joins[parts[0]][parts[1]]
+    return book.forks[parts[0]][int(tree[0][-1])]
+
+
+def nested(shell, depth=30):
+    """A thing that is nested so deep."""
+    thing = 0
+    for _ in range(depth):
+        if shell is dict:
+            thing = {"a": thing}
+        else:
+            thing = shell([thing])
+    return thing
+
+
+def odd_things():
+    """Things of all sorts that [4] lists, none of which is a run, a world, a tuple or a book."""
+    flags = (False, True, None)
+    numbers = (-1, 8, 401, 10 ** 999, -10 ** 999)
+    texts = ("", "0", "free", "change", "a b~\n\t", "z" * 5000)
+    lists = ([], [0], [0, 1], [("change", 0)], [3, "free", False], ["fork", 0])
+    dicts = ({}, {0: 0}, {0: ("change", 0)}, {"a": [{}]}, {(1, "b"): None})
+    deep = (nested(list), nested(dict))
+    own = (random_book(0, 2), tree_rule(), NoRun(), NotLet(3))
+    return [*flags, *numbers, *texts, *lists, *dicts, *deep, *own]
+
+
+def odd_tuples():
+    """Tuples that are no run, no world, and no tuple of copies or stamps."""
+    inside = [thing for thing in odd_things() if not (isinstance(thing, int) and thing == 0)]
+    tuples = [(thing,) for thing in inside] + [(thing, 0) for thing in inside]
+    return tuples + [nested(tuple), (nested(tuple), nested(list)), tuple(range(1000, 3000)),
+                     (0,) * 50000]

@@ -1,0 +1,1 @@
+"""What stamps out of a finite stock can tell of copies that come and go."""
