@@ -178,3 +178,117 @@ def odd_tuples():
     tuples = [(thing,) for thing in inside] + [(thing, 0) for thing in inside]
     return tuples + [nested(tuple), (nested(tuple), nested(list)), tuple(range(1000, 3000)),
                      (0,) * 50000]
+
+
+def worn(book, run):
+    """The stamps of the living copies behind a run that can be done."""
+    if isinstance(book, Book):
+        change, fork = book.changes.__getitem__, book.forks.__getitem__
+
+        def join(one, other):
+            return book.joins[one][other]
+    else:
+        change, fork, join = book.changes, book.forks, book.joins
+    bears = [book.first]
+    for deed in run:
+        copy = deed[1]
+        if deed[0] == "change":
+            bears[copy] = change(bears[copy])
+        elif deed[0] == "fork":
+            bears[copy], second = fork(bears[copy])
+            bears.append(second)
+        elif deed[0] == "join":
+            bears[copy] = join(bears[copy], bears[deed[2]])
+            bears[deed[2]] = None
+        else:
+            bears[copy] = None
+    return {copy: stamp for copy, stamp in enumerate(bears) if stamp is not None}
+
+
+def look_of(book, one, other):
+    return book.looks[one][other] if isinstance(book, Book) else book.looks(one, other)
+
+
+def marked(model, kind):
+    """The copy that has the pen or is copy 0, or None."""
+    if kind == "free":
+        return None
+    return model.pen if kind == "pen" else 0 if 0 in model.known else None
+
+
+def plain_behind(book, run, world):
+    """The plain standing behind a run, by trying every order of the copies."""
+    model, index = modelled(run, world)
+    assert index is None
+    bears = worn(book, run)
+    mark = marked(model, world[1])
+    found = []
+    for copies in itertools.permutations(sorted(model.known)):
+        at = copies.index(mark) if mark in copies else -1
+        found.append((tuple(bears[copy] for copy in copies), model.lots(copies), at))
+    return min(found)
+
+
+def next_runs(run, world):
+    """All runs of one deed more."""
+    model, _ = modelled(run, world)
+    deeds = all_deeds(1 + max(model.known))
+    return [run + (deed,) for deed in deeds if model.reason(deed, world) is None]
+
+
+def runs_to_standings(book, world):
+    """A run of the fewest deeds to each plain standing, the fewest ahead."""
+    runs = {plain_behind(book, (), world): ()}
+    waiting = [()]
+    while waiting:
+        later = []
+        for run in waiting:
+            for longer in next_runs(run, world):
+                standing = plain_behind(book, longer, world)
+                if standing not in runs:
+                    runs[standing] = longer
+                    later.append(longer)
+        waiting = later
+    return runs
+
+
+def all_runs(world, length):
+    """All runs of a world of at most so many deeds."""
+    found = [()]
+    ends = [()]
+    for _ in range(length):
+        ends = [longer for run in ends for longer in next_runs(run, world)]
+        found += ends
+    return found
+
+
+def sights_of(run, world, question):
+    """All sights for a question at a run: copies and the answer."""
+    model, _ = modelled(run, world)
+    copies = sorted(model.known)
+    if question[0] == "alone":
+        return [((copy,), len(copies) == 1) for copy in copies]
+    if question[0] == "lots":
+        return [(order, model.lots(order)) for order in itertools.permutations(copies)]
+    return [((one, other), question[1 + WORDS.index(model.truth(one, other))])
+            for one, other in itertools.permutations(copies, 2)]
+
+
+def has_twin(book, world, question, runs):
+    """Whether two sights at these runs, or one run, are a twin."""
+    answers = {}
+    for run in runs:
+        bears = worn(book, run)
+        for copies, answer in sights_of(run, world, question):
+            seen = tuple(bears[copy] for copy in copies)
+            if answers.setdefault(seen, answer) != answer:
+                return True
+    return False
+
+
+def lying_copies(book, run, world):
+    """The pairs of copies of which the look doesn't say the truth."""
+    model, _ = modelled(run, world)
+    bears = worn(book, run)
+    return [(one, other) for one, other in itertools.permutations(sorted(model.known), 2)
+            if look_of(book, bears[one], bears[other]) != model.truth(one, other)]

@@ -16,6 +16,19 @@ FUNCTIONS = {
         "stamps": ["book", "run", "world"], "said": ["book", "run", "world", "one", "other"],
         "renamed": ["book", "order"],
     },
+    "threecopies.judging": {
+        "taken_down": ["book", "world"], "twin": ["book", "world", "question"],
+        "lie": ["book", "world"], "is_twin": ["book", "world", "question", "thing"],
+        "is_lie": ["book", "world", "thing"], "serves": ["book", "world", "question"],
+        "is_closed": ["book", "world", "thing"], "standings": ["book", "world"],
+    },
+    "threecopies.breaking": {
+        "broken": ["book", "world", "question", "rounds"], "row_of": ["book", "world", "rounds"],
+    },
+    "threecopies.makers": {
+        "two_book": [], "nine_book": [], "twelve_book": [], "sixteen_book": [],
+        "trunk_rule": ["most"],
+    },
 }
 CLASSES = {
     "threecopies.errors": {"NotLet": ["index"], "BadLog": ["index"], "BadBook": ["part"],

@@ -1,7 +1,7 @@
 """Runs of copies: which deeds a world lets, which copies live, and what each of them knows."""
 
-from threecopies.checks import is_integer, is_world
-from threecopies.errors import NoCopies, NoCopy, NoRun, NotLet, NoWorld
+from threecopies.checks import check_world, is_integer
+from threecopies.errors import NoCopies, NoCopy, NoRun, NotLet
 
 # How many items the deed of each word has, the word counted.
 LENGTHS = {"change": 2, "fork": 2, "join": 3, "lose": 2}
@@ -73,8 +73,7 @@ def walked(run, world):
     """The herd behind the deeds ahead of the fault, and the fault, or None."""
     if not is_run(run):
         raise NoRun()
-    if not is_world(world):
-        raise NoWorld()
+    check_world(world)
     herd = Herd()
     for index, deed in enumerate(run):
         if not herd.lets(deed, world):
