@@ -1,7 +1,5 @@
 """Books, questions and wrong things that several files of tests share."""
 
-import itertools
-
 from tests.reference import KINDS, nested, odd_things, odd_tuples
 from threecopies.books import Book, Rule
 
@@ -43,8 +41,9 @@ def rule_of(book, name=lambda stamp: stamp, stamp_of=lambda name: name):
                 forks, joins, looks)
 
 
-NAMES = (0, "0", (0,), ("0",), ((0,),), (), ((),), ("(0",), (0, (0,)), ((0,), 0), -1, "", ("",),
-         (".0",), nested(tuple), (nested(tuple)[0],), (0, 0), ("0", 0), ("00",), "(1")
+NAMES = ((0, ("(1",)), ((0,), "(1"), 0, "0", (0,), ("0",), ((0,),), (), ((),), "(0", "(1", ("(0",),
+         (0, (0,)), ((0,), 0), -1, "", ("",), (".0",), nested(tuple), (nested(tuple)[0],), (0, 0),
+         ("0", 0), ("00",))
 
 
 def odd_rule(book):
@@ -66,15 +65,3 @@ def wrong_worlds():
     return [*odd_things(), *odd_tuples(), [2, "free", False], (8, "free", False),
             (0, "free", False), (True, "free", False), (2, "Free", False), (2, "free", 0),
             (2, "free"), (2, "free", False, 0), (2, ["free"], False)]
-
-
-def least(standing):
-    """The plain standing, by trying every order."""
-    stamps, lots, mark = standing
-    found = []
-    for order in itertools.permutations(range(len(stamps))):
-        place = {old: new for new, old in enumerate(order)}
-        found.append((tuple(stamps[old] for old in order),
-                      tuple(sorted(tuple(sorted(place[at] for at in lot)) for lot in lots)),
-                      place.get(mark, -1)))
-    return min(found)

@@ -292,3 +292,63 @@ def lying_copies(book, run, world):
     bears = worn(book, run)
     return [(one, other) for one, other in itertools.permutations(sorted(model.known), 2)
             if look_of(book, bears[one], bears[other]) != model.truth(one, other)]
+
+
+def least(standing):
+    """The plain standing, by trying every order."""
+    stamps, lots, mark = standing
+    found = []
+    for order in itertools.permutations(range(len(stamps))):
+        place = {old: new for new, old in enumerate(order)}
+        found.append((tuple(stamps[old] for old in order),
+                      tuple(sorted(tuple(sorted(place[at] for at in lot)) for lot in lots)),
+                      place.get(mark, -1)))
+    return min(found)
+
+
+def all_standings(many, copies, world):
+    """All plain standings of so many stamps and so many copies, be there a run or not."""
+    lots = [lot for size in range(1, copies) for lot in itertools.combinations(range(copies), size)]
+    marks = [-1] if world[1] == "free" else list(range(-1 if world[2] else 0, copies))
+    found = set()
+    for stamps in itertools.combinations_with_replacement(range(many), copies):
+        for size in range(len(lots) + 1):
+            for some in itertools.combinations(sorted(lots), size):
+                found.update(least((stamps, some, mark)) for mark in marks)
+    return sorted(found)
+
+
+def steps_of(book, standing, world):
+    """All plain standings that come of a standing of a Book by one deed."""
+    stamps, lots, mark = standing
+    names = list(range(1, len(stamps) + 1))
+    if mark >= 0:
+        names[mark] = 0
+    found = set()
+    for deed in all_deeds(len(stamps) + 1):
+        model = Model()
+        model.known = {name: frozenset(lot for lot in lots if at in lot)
+                       for at, name in enumerate(names)}
+        model.tree = {name: stamps[at] for at, name in enumerate(names)}
+        model.forks = len(stamps)
+        model.pen = 0 if mark >= 0 else None
+        if model.reason(deed, world) is not None:
+            continue
+        model.do(deed, "new")
+        # What a deed makes of one stamp is what a short run makes of it.
+        bears = {name: step_of(book, tree) for name, tree in model.tree.items()}
+        copies = sorted(model.known)
+        at = -1 if marked(model, world[1]) is None else copies.index(marked(model, world[1]))
+        found.add(least((tuple(bears[name] for name in copies), model.lots(copies), at)))
+    return found
+
+
+def step_of(book, tree):
+    """The stamp behind one deed of the model, or none."""
+    if not isinstance(tree, tuple):
+        return tree
+    if tree[0] == "change":
+        return book.changes[tree[1]]
+    if tree[0] == "join":
+        return book.joins[tree[1]][tree[2]]
+    return book.forks[tree[1]][int(tree[0][-1])]

@@ -173,6 +173,15 @@ class TestTrunkRule(unittest.TestCase):
             for seed in range(40):
                 come |= set(worn(rule, random_run(seed, world, 300)).values())
             self.assertLess(len(come), 200)
+        for most in range(1, 8):
+            # The trunk is not told of losses, and does not count them for ever.
+            rule = trunk_rule(most)
+            run = ()
+            come = set()
+            for fork in range(1, 100):
+                run += (("fork", 0), ("lose", fork), ("change", 0))
+                come |= set(stamps(rule, run[:-2], (2, "trunk", True)).values())
+            self.assertLess(len(come), 40)
         self.assertEqual(len(taken_down(trunk_rule(2), (2, "trunk", False)).changes), 5)
 
     def test_stamps_are_stamps(self):

@@ -4,12 +4,12 @@ import itertools
 import random
 import unittest
 
-from tests.cases import ALONE, SMALL, TWO, ONE, PAIR, wrong_worlds, least
-from tests.reference import (odd_things, odd_tuples, plain_behind, random_book, random_run,
-                             runs_to_standings)
+from tests.cases import ALONE, ONE, PAIR, SMALL, TWO, wrong_worlds
+from tests.reference import (all_standings, least, odd_things, odd_tuples, plain_behind,
+                             random_book, random_run, runs_to_standings, steps_of)
 from threecopies.books import Book, renamed
 from threecopies.errors import NoWorld, TooMany
-from threecopies.judging import is_closed, serves, standings
+from threecopies.judging import is_closed, is_lot, serves, standings
 
 
 class TestStandings(unittest.TestCase):
@@ -145,15 +145,68 @@ class TestIsClosed(unittest.TestCase):
         for world in ((2, "trunk", False), (2, "trunk", True), (2, "pen", True)):
             self.assertIs(is_closed(PAIR, world, free), False)
 
+    def test_lists_of_any_standings(self):
+        """Lists that hold many standings for which there is no run."""
+        worlds = [world for world in SMALL if world[0] < 3] + [(3, "pen", False)]
+        for seed, world in enumerate(worlds):
+            rng = random.Random(seed)
+            many = 2 if world[0] < 3 else 1
+            book = random_book(seed, many)
+            every = [standing for copies in range(1, world[0] + 1)
+                     for standing in all_standings(many, copies, world)]
+            self.assertIs(is_closed(book, world, sorted(every)), True)
+            for _ in range(8):
+                listed = set(standings(book, world))
+                waiting = rng.sample(every, min(2, len(every)))
+                while waiting:
+                    standing = waiting.pop()
+                    if standing not in listed:
+                        listed.add(standing)
+                        waiting += steps_of(book, standing, world)
+                self.assertIs(is_closed(book, world, sorted(listed)), True)
+                for standing in listed:
+                    less = sorted(listed - {standing})
+                    due = ((book.first,), (), -1 if world[1] == "free" else 0) in less and all(
+                        steps_of(book, other, world) <= set(less) for other in less)
+                    self.assertIs(is_closed(book, world, less), due)
+
+    def test_wrong_standings_that_are_closed(self):
+        """All that comes of them is listed; what is wrong is their form alone."""
+        free = standings(ONE, TWO)
+        self.assertEqual(free[0], ((0,), (), -1))
+        lots = [(), ((0,),), ((0,), (1,))]
+        for more in [[((0, 0), tuple(sorted((*some, (0, 1)))), -1) for some in lots],
+                     [((0, 0), tuple(sorted((*some, ()))), -1) for some in lots],
+                     [((0,), (), 0), ((0, 0), (), 0), ((0, 0), ((0,),), 0), ((0, 0), ((0,),), 1),
+                      ((0, 0), ((0,), (1,)), 0)],
+                     [((0, 0), ((0,), (0,)), -1), ((0, 0), ((0,), (0,), (1,)), -1)],
+                     [((0, 0), ((1,),), -1)]]:
+            self.assertIs(is_closed(ONE, TWO, sorted(free + more)), False)
+        for kind in ("pen", "trunk"):
+            found = standings(PAIR, (2, kind, False))
+            self.assertIs(is_closed(PAIR, (2, kind, False), sorted(
+                found + [((0,), (), -1), ((1,), (), -1)])), False)
+        trunk = standings(ONE, (2, "trunk", True))
+        self.assertIs(is_closed(ONE, (2, "trunk", True), sorted(
+            trunk + [((0, 0), some, -1) for some in lots])), True)
+
+    def test_what_a_lot_is(self):
+        for lot in [(0,), (3,), (0, 1), (1, 3), (0, 1, 2), (1, 2, 3)]:
+            self.assertIs(is_lot(lot, 4), True)
+        for lot in [(), (0, 1, 2, 3), (4,), (-1,), (0, 0), (1, 0), (0, 4), (True,), (0, True),
+                    ("0",), [0], 0, None, (0, (1,)), (0, None)]:
+            self.assertIs(is_lot(lot, 4), False)
+        self.assertIs(is_lot((0,), 1), False)
+
     def check_wrong(self, book, world, things):
         found = standings(book, world)
         self.assertIs(is_closed(book, world, found), True)
         for thing in things:
-            for listed in ([*found, thing], [thing, *found], [thing], found[:1] + [thing]
-                           + found[1:]):
-                if listed != found:
-                    with self.subTest(thing=repr(thing)[:60]):
-                        self.assertIs(is_closed(book, world, listed), False)
+            self.assertIs(is_closed(book, world, [thing]), False)
+            for at in range(len(found) + 1):
+                listed = found[:at] + [thing] + found[at:]
+                with self.subTest(thing=repr(thing)[:60]):
+                    self.assertIs(is_closed(book, world, listed), False)
 
     def test_wrong_standings(self):
         free = [((0, 0), (), 0), ((0, 0), (), -2), ((0, 0), (), None), ((0, 0), (), True),

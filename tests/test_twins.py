@@ -79,6 +79,18 @@ class TestTwin(unittest.TestCase):
         self.assertIs(is_twin(rule, TWO, LOTS, ((run, (0, 1)), (run, (1, 0)))), True)
         self.assertIs(is_twin(rule, TWO, LOOK, ((run, (0, 1)), (run, (1, 0)))), True)
 
+    def test_lots_in_another_order_alone(self):
+        """Like stamps come only where one copy knows more; so just the order makes a twin."""
+        book = Book(0, (0, 1, 1), ((2, 1), (1, 1), (2, 1)), ((0,) * 3,) * 3, None)
+        world = (2, "pen", False)
+        self.assertEqual([row[:2] for row in runs_to_standings(book, world)],
+                         [((0,), ()), ((1, 2), ()), ((1, 1), ((0,),))])
+        found = twin(book, world, LOTS)
+        self.check_by_facts(book, world, LOTS, found)
+        self.assertEqual(found[0][0], found[1][0])
+        self.assertIs(serves(book, world, LOTS), False)
+        self.assertIs(serves(book, world, ("look", 0, 1, 1, 0)), True)
+
     def test_a_look_that_tells_nothing_is_served_by_all(self):
         for answer in range(4):
             question = ("look",) + (answer,) * 4

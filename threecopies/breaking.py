@@ -162,7 +162,7 @@ def free_look(world, ahead, between, question):
         # One more change makes the two halves newer and elder, and leaves the others apart.
         one.change(first)
         other.change(first)
-    if same != apart or newer != apart:
+    if newer != apart:
         return one.sight((first, second)), other.sight((first, late_second))
     return one.sight((second, first)), other.sight((late_second, first))
 

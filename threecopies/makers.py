@@ -161,7 +161,7 @@ def trunk_fork(stamp, most):
 
 
 def trunk_join(stamp, branch):
-    if not is_trunk(stamp) or is_trunk(branch):
+    if not is_trunk(stamp):
         return stamp
     moved, groups = stamp
     changed, gone = branch
@@ -174,7 +174,7 @@ def trunk_join(stamp, branch):
 
 def trunk_news(one, other):
     """1 if a copy knows what another one does not, or 0."""
-    if one[0] == 1 and not (is_trunk(one) and is_trunk(other)):
+    if one[0] == 1:
         return 1
     if is_trunk(other):
         return 0
