@@ -9,6 +9,7 @@ import random
 
 from threecopies.books import Book, Rule
 from threecopies.errors import NoRun, NotLet
+from threecopies.notebook import Notebook
 
 KINDS = ("free", "pen", "trunk")
 WORDS = ("same", "newer", "elder", "apart")
@@ -168,7 +169,7 @@ def odd_things():
     lists = ([], [0], [0, 1], [("change", 0)], [3, "free", False], ["fork", 0])
     dicts = ({}, {0: 0}, {0: ("change", 0)}, {"a": [{}]}, {(1, "b"): None})
     deep = (nested(list), nested(dict))
-    own = (random_book(0, 2), tree_rule(), NoRun(), NotLet(3))
+    own = (random_book(0, 2), tree_rule(), NoRun(), NotLet(3), Notebook(random_book(0, 2), 3))
     return [*flags, *numbers, *texts, *lists, *dicts, *deep, *own]
 
 
@@ -250,6 +251,25 @@ def runs_to_standings(book, world):
                     later.append(longer)
         waiting = later
     return runs
+
+
+def runs_to_rows(books, world):
+    """A run of the fewest deeds to each row of the copies with their stamps, and the mark."""
+    def row_of(run):
+        rows = [worn(book, run) for book in books]
+        mark = marked(modelled(run, world)[0], world[1])
+        return tuple((tuple(repr(row[copy]) for row in rows), copy == mark)
+                     for copy in sorted(rows[0]))
+
+    found = {row_of(()): ()}
+    waiting = [()]
+    while waiting:
+        longer = [more for run in waiting for more in next_runs(run, world)]
+        waiting = []
+        for run in longer:
+            if found.setdefault(row_of(run), run) == run:
+                waiting.append(run)
+    return list(found.values())
 
 
 def all_runs(world, length):

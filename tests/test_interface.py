@@ -1,4 +1,4 @@
-"""Tests of [17]: the names, the arguments and the places of the interface, as far as it is built."""
+"""Tests of [17]: the names, the arguments and the places of the interface."""
 
 import importlib
 import inspect
@@ -29,12 +29,27 @@ FUNCTIONS = {
         "two_book": [], "nine_book": [], "twelve_book": [], "sixteen_book": [],
         "trunk_rule": ["most"],
     },
+    "threecopies.telling": {
+        "truths": ["book", "world", "one", "other"], "run_to": ["book", "world", "stamps"],
+        "parting": ["one", "other", "world"],
+    },
+    "threecopies.notebook": {"replayed": ["book", "most", "log"]},
+    "threecopies.texts": {
+        "run_text": ["run"], "book_text": ["book"], "read_run": ["text"], "read_book": ["text"],
+    },
 }
 CLASSES = {
     "threecopies.errors": {"NotLet": ["index"], "BadLog": ["index"], "BadBook": ["part"],
                            "TooMany": ["most"], "BadText": ["line"]},
     "threecopies.books": {"Book": ["first", "changes", "forks", "joins", "looks"],
                           "Rule": ["first", "changes", "forks", "joins", "looks"]},
+    "threecopies.notebook": {"Notebook": ["book", "most"]},
+}
+METHODS = {
+    "write": ["copy", "cell", "value"], "fork": ["copy"], "meet": ["one", "other"],
+    "join": ["one", "other"], "lose": ["copy"], "read": ["copy", "cell"], "cells": ["copy"],
+    "copies": [], "stamp": ["copy"], "held": ["copy"], "gone": [], "lies": [], "back": [],
+    "copy": [], "log": [],
 }
 
 
@@ -59,6 +74,14 @@ class TestInterface(unittest.TestCase):
                     self.assertEqual(kind.__module__, place)
                     self.assertEqual(list(inspect.signature(kind).parameters), arguments)
                     self.assertIn("__init__", vars(kind))
+
+    def test_methods_of_a_notebook(self):
+        own = vars(importlib.import_module("threecopies.notebook").Notebook)
+        for name, arguments in METHODS.items():
+            with self.subTest(name):
+                self.assertTrue(inspect.isfunction(own[name]))
+                self.assertEqual(list(inspect.signature(own[name]).parameters),
+                                 ["self", *arguments])
 
     def test_book_compares_by_its_own_method(self):
         self.assertIn("__eq__", vars(importlib.import_module("threecopies.books").Book))

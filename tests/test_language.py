@@ -18,6 +18,12 @@ BUILTINS = set("""len range enumerate zip min max sum abs sorted reversed int st
     NotImplemented""".split())
 DUNDERS = {"__init__", "__eq__", "__repr__", "__str__", "__len__", "__enter__", "__exit__",
            "__call__", "__iter__"}
+METHODS = set("""append clear copy count endswith extend find get index insert isalnum isalpha
+    isdigit islower isspace isupper items join keys ljust lower lstrip partition pop remove replace
+    reverse rfind rjust rpartition rsplit rstrip setdefault split splitlines startswith strip
+    update upper values zfill bit_length""".split())
+BARRED_ATTRIBUTES = set("""items keys values pop update append clear extend insert remove reverse
+    setdefault sort args encode decode hex fromhex format mro real imag""".split())
 BARRED = (ast.AsyncFunctionDef, ast.AsyncFor, ast.AsyncWith, ast.Global, ast.Div, ast.GeneratorExp,
           ast.Await, ast.AnnAssign)
 
@@ -80,6 +86,62 @@ class TestLanguage(unittest.TestCase):
                 self.assertIsInstance(node, (ast.ImportFrom, ast.FunctionDef, ast.ClassDef,
                                              ast.Assign), path)
             self.assertIsNotNone(ast.get_docstring(tree), path)
+
+    def test_no_file_imports_itself_by_way_of_others(self):
+        names = {path.stem: {node.module.split(".")[1] for node in tree.body
+                             if isinstance(node, ast.ImportFrom) and node.module not in LIBRARY}
+                 for path, tree in trees()}
+        while names:
+            free = [name for name, needed in names.items() if not needed & set(names)]
+            self.assertNotEqual(free, [], names)
+            names = {name: needed for name, needed in names.items() if name not in free}
+
+    def test_names_are_bound_once(self):
+        for path, tree in trees():
+            bound = [alias.name for node in tree.body if isinstance(node, ast.ImportFrom)
+                     for alias in node.names]
+            classes = [node.name for node in tree.body if isinstance(node, ast.ClassDef)]
+            outer = set(bound + classes)
+            bound += [part.name for part in tree.body if hasattr(part, "name")]
+            bound += [target.id for part in tree.body if isinstance(part, ast.Assign)
+                      for target in part.targets]
+            self.assertEqual(len(bound), len(set(bound)), path)
+            for node in ast.walk(tree):
+                if isinstance(node, ast.arg):
+                    self.assertNotIn(node.arg, outer, path)
+                if isinstance(node, ast.Name) and isinstance(node.ctx, ast.Store):
+                    self.assertNotIn(node.id, outer, path)
+
+    def test_methods_and_attributes(self):
+        for path, tree in trees():
+            for kind in [node for node in tree.body if isinstance(node, ast.ClassDef)]:
+                methods = [node.name for node in kind.body if isinstance(node, ast.FunctionDef)]
+                self.assertEqual(len(methods), len(set(methods)), (path, kind.name))
+                stored = {node.attr for node in ast.walk(kind) if isinstance(node, ast.Attribute)
+                          and isinstance(node.ctx, ast.Store)}
+                self.assertEqual(stored & set(methods), set(), (path, kind.name))
+                self.assertEqual(stored & BARRED_ATTRIBUTES, set(), (path, kind.name))
+
+    def test_builtin_methods(self):
+        own = {node.name for _, tree in trees() for node in ast.walk(tree)
+               if isinstance(node, ast.FunctionDef)}
+        for path, tree in trees():
+            for node in ast.walk(tree):
+                if isinstance(node, ast.Call) and isinstance(node.func, ast.Attribute):
+                    self.assertIn(node.func.attr, METHODS | own, path)
+                    self.assertEqual(node.keywords, [], path)
+                if isinstance(node, ast.Call) and isinstance(node.func, ast.Name):
+                    self.assertNotIn("format", node.func.id, path)
+
+    def test_handlers(self):
+        errors = {node.name for path, tree in trees() if path.stem == "errors"
+                  for node in tree.body if isinstance(node, ast.ClassDef)}
+        for path, tree in trees():
+            for node in ast.walk(tree):
+                if isinstance(node, ast.ExceptHandler):
+                    self.assertIn(getattr(node.type, "id", None), errors, path)
+                if isinstance(node, ast.Raise):
+                    self.assertIn(node.exc.func.id, errors, path)
 
     def test_words(self):
         # Where doctest has run, `_` is one of them.

@@ -4,29 +4,10 @@ import itertools
 import unittest
 
 from tests.cases import SMALL, TWO, ONE, PAIR, NO_LOOK, counting_rule, odd_rule, wrong_worlds
-from tests.reference import (all_runs, look_of, marked, modelled, nested, next_runs, random_book,
-                             worn)
+from tests.reference import all_runs, look_of, nested, random_book, runs_to_rows, worn
 from threecopies.books import Book, Rule
 from threecopies.errors import NoWorld, TooMany
 from threecopies.judging import taken_down
-
-
-def runs_to_rows(book, world):
-    """A run to each row of stamps in the order of the copies, with the mark."""
-    def row_of(run):
-        bears = worn(book, run)
-        mark = marked(modelled(run, world)[0], world[1])
-        return tuple((repr(bears[copy]), copy == mark) for copy in sorted(bears))
-
-    found = {row_of(()): ()}
-    waiting = [()]
-    while waiting:
-        longer = [more for run in waiting for more in next_runs(run, world)]
-        waiting = []
-        for run in longer:
-            if found.setdefault(row_of(run), run) == run:
-                waiting.append(run)
-    return list(found.values())
 
 
 class TestTakenDown(unittest.TestCase):
@@ -59,7 +40,7 @@ class TestTakenDown(unittest.TestCase):
         for seed in range(12):
             for world in SMALL:
                 book = random_book(seed, 5)
-                runs = runs_to_rows(book, world)
+                runs = runs_to_rows([book], world)
                 for told in (book, odd_rule(book)):
                     down, meant = self.check(told, world, runs)
                     come = {repr(stamp) for run in runs for stamp in worn(told, run).values()}

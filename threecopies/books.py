@@ -1,10 +1,13 @@
 """Books of stamps, given as tables (Book) or as functions (Rule), and the stamps that copies bear."""
 
-from threecopies.checks import WORDS, is_between, is_tuple_of
+from threecopies.checks import WORDS, is_between, is_integer, is_tuple_of
 from threecopies.errors import BadBook, NoLook, NoOrder
 from threecopies.runs import check_two, herd_behind
 
 MOST_STAMPS = 400
+# Of a stamp of a Rule: in how many tuples a part of it may stand, and how many parts it may have.
+MOST_DEEP = 30
+MOST_PARTS = 100000
 
 
 class Book:
@@ -72,6 +75,36 @@ def wrong_part(first, changes, forks, joins, looks):
     return None
 
 
+def can_be_stamp(thing):
+    """Whether a thing can be a stamp of a Rule."""
+    waiting = [(thing, 0)]
+    parts = 0
+    while waiting:
+        part, depth = waiting.pop()
+        if isinstance(part, tuple):
+            # Counted before they are gone into: a few tuples may hold one another so often
+            # that going through all of it would never end.
+            parts += len(part)
+            if parts > MOST_PARTS or depth == MOST_DEEP and part != ():
+                return False
+            waiting.extend([(inner, depth + 1) for inner in part])
+        elif not isinstance(part, str) and not is_integer(part):
+            return False
+    return True
+
+
+def is_stamp(book, thing):
+    """Whether a thing is a stamp of a Book, or can be one of a Rule."""
+    if isinstance(book, Book):
+        return is_between(thing, 0, len(book.changes) - 1)
+    return can_be_stamp(thing)
+
+
+def check_look(book):
+    if book.looks is None:
+        raise NoLook()
+
+
 def after_change(book, stamp):
     if isinstance(book, Book):
         return book.changes[stamp]
@@ -128,8 +161,7 @@ def stamps(book, run, world):
 
 def said(book, run, world, one, other):
     check_two(herd_behind(run, world), one, other)
-    if book.looks is None:
-        raise NoLook()
+    check_look(book)
     row = borne(book, run)
     return look_at(book, row[one], row[other])
 

@@ -4,6 +4,7 @@ from threecopies.errors import NoNumber, NoQuestion, NoWorld
 
 WORDS = ("same", "newer", "elder", "apart")
 KINDS = ("free", "pen", "trunk")
+MOST_COPIES = 7
 
 
 def is_integer(thing):
@@ -23,7 +24,7 @@ def is_world(thing):
     if not is_tuple_of(thing, 3):
         return False
     most, kind, losses = thing
-    return is_between(most, 1, 7) and kind in KINDS and isinstance(losses, bool)
+    return is_between(most, 1, MOST_COPIES) and kind in KINDS and isinstance(losses, bool)
 
 
 def is_question(thing):

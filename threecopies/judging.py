@@ -1,8 +1,8 @@
 """Whether books answer questions: twins, lies, and all standings of the runs of a world."""
 
-from threecopies.books import MOST_STAMPS, Book, are_stamps, borne, look_at
+from threecopies.books import MOST_STAMPS, Book, are_stamps, borne, check_look, look_at
 from threecopies.checks import WORDS, check_question, check_world, is_between, is_integer, is_tuple_of
-from threecopies.errors import NoLook, TooMany
+from threecopies.errors import TooMany
 from threecopies.plain import Plains, swapped
 from threecopies.runs import compared, is_run, lots_of, walked
 from threecopies.search import Ledger, row_spots, run_of, standing_spots
@@ -103,8 +103,7 @@ def serves(book, world, question):
 
 def lie(book, world):
     check_world(world)
-    if book.looks is None:
-        raise NoLook()
+    check_look(book)
     ledger = Ledger(book)
     for spot in standing_spots(ledger, world):
         stamps, lots, _ = spot.state
@@ -162,8 +161,7 @@ def is_twin(book, world, question, thing):
 
 def is_lie(book, world, thing):
     check_world(world)
-    if book.looks is None:
-        raise NoLook()
+    check_look(book)
     # Which numbers a look gives for the four truths does not matter for what a sight of it is.
     herd = herd_seen(world, thing, ("look", 0, 1, 2, 3))
     if herd is None:

@@ -1,7 +1,7 @@
 """Books whose look is the truth: for two copies, for three, and for any number off one trunk."""
 
 from threecopies.books import Book, Rule
-from threecopies.checks import check_number
+from threecopies.checks import MOST_COPIES, check_number
 
 # By whether the first copy knows what the second does not, and the other way about.
 NEWS = (("same", "elder"), ("newer", "apart"))
@@ -187,5 +187,5 @@ def trunk_look(one, other):
 
 
 def trunk_rule(most):
-    check_number(most, 7)
+    check_number(most, MOST_COPIES)
     return Rule((1, ()), trunk_change, lambda stamp: trunk_fork(stamp, most), trunk_join, trunk_look)

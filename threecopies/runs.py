@@ -114,6 +114,11 @@ def compared(one, other):
     return "apart"
 
 
+def indexes_in(deeds):
+    """The ascending tuple of the deeds that a number keeps, bit by bit."""
+    return tuple([index for index in range(deeds.bit_length()) if deeds >> index & 1])
+
+
 def lots_of(knows):
     """The lots among copies, by the list of the numbers that keep what they know."""
     every = 0
@@ -140,8 +145,7 @@ def living(run, world):
 def known(run, world, copy):
     herd = herd_behind(run, world)
     check_copy(herd, copy)
-    deeds = herd.knows[copy]
-    return tuple([index for index in range(len(run)) if deeds >> index & 1])
+    return indexes_in(herd.knows[copy])
 
 
 def truth(run, world, one, other):

@@ -54,6 +54,12 @@ class Ledger:
     def stamp_of(self, number):
         return number if isinstance(self.book, Book) else self.bearable[number]
 
+    def number_of(self, stamp):
+        """The number of a stamp, or None for one of a Rule that came nowhere so far."""
+        if isinstance(self.book, Book):
+            return stamp
+        return self.numbers.get(key_of(stamp))
+
     def changed(self, number):
         if number not in self.changes:
             self.changes[number] = self.numbered(after_change(self.book, self.stamp_of(number)))
